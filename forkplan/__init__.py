@@ -1,0 +1,1 @@
+"""Forkplan: plans with forks, in worlds only partly seen."""
