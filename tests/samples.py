@@ -1,4 +1,12 @@
-"""What several tests draw on: chance expressions from a seed, and their worth reckoned another way."""
+"""What several tests draw on: chance expressions, worlds and plans from a seed, and the same reckoned another way."""
+
+import itertools
+import math
+import random
+
+from forkplan.worlds import world_of
+
+YES = ("yes",)
 
 
 def chance_expression(chance, names, depth):
@@ -44,3 +52,188 @@ def nested(kind, leaf, depth):
     for _ in range(depth):
         leaf = (kind, leaf, leaf)
     return leaf
+
+
+def box(name):
+    return ("box", name)
+
+
+def number(n):
+    return ("number", n)
+
+
+def same(name, n):
+    return ("same", box(name), number(n))
+
+
+def under(name, n):
+    return ("under", box(name), number(n))
+
+
+def both(*conditions):
+    """One condition for any number of them."""
+    whole = conditions[-1]
+    for condition in reversed(conditions[:-1]):
+        whole = ("both", condition, whole)
+    return whole
+
+
+def chance_small_world(chance):
+    """The five of a world small enough that all its knowledges can be gone through plainly."""
+    sizes = chance.choice([(2,), (3,), (4,), (2, 2), (2, 3), (3, 2), (3, 3), (2, 2, 2)])
+    boxes = list(zip(("a", "b", "c"), sizes))
+    names = [name for name, size in boxes]
+    deeds = []
+    for deed in ("go", "run", "turn")[:chance.randrange(4)]:
+        ways = [[(name, chance_expression(chance, names, 1)) for name in names if chance.random() < 0.5]
+                for _ in range(chance.choice([1, 1, 1, 2, 2, 3]))]
+        need = YES if chance.random() < 0.6 else chance_condition(chance, names, 1)
+        deeds.append((deed, chance.randrange(1, 6), need, ways))
+    looks = [(look, chance.randrange(1, 4), chance_expression(chance, names, 1))
+             for look in ("see", "peep")[:chance.randrange(3)]]
+    begin = chance.choice([YES, chance_condition(chance, names, 1), same(chance.choice(names), 0)])
+    goal = chance.choice([chance_condition(chance, names, 1), same(names[0], 1), same(names[-1], 0)])
+    return boxes, deeds, looks, begin, goal
+
+
+def chance_riddle(chance):
+    """As chance_small_world, but with a deed for each value of a: so it helps to look, and most have a plan."""
+    size = chance.randrange(2, 4)
+    boxes = [("a", size), ("b", chance.randrange(2, 4))]
+    deeds = []
+    for deed, value in zip(("go", "run", "turn"), range(size)):
+        need = chance.choice([same("a", value), same("a", value), YES, ("not", same("a", value))])
+        ways = [[("b", number(chance.choice([1, 1, 1, 0])))] + [("a", chance_expression(chance, ["a", "b"], 1))] * more
+                for more in chance.choice([[0], [0], [1], [0, 1]])]
+        deeds.append((deed, chance.randrange(1, 9), need, ways))
+    looks = [("see", chance.randrange(1, 4), chance.choice([box("a"), chance_expression(chance, ["a", "b"], 1)]))]
+    return boxes, deeds, looks, chance.choice([YES, same("b", 0), same("b", 0)]), same("b", 1)
+
+
+def chance_worlds(seed, many):
+    """So many chance worlds of both kinds, each with what another reckoning tells of it."""
+    chance = random.Random(seed)
+    worlds = []
+    while len(worlds) < many:
+        five = chance.choice([chance_small_world, chance_riddle])(chance)
+        other = OtherReckoning(five)
+        if other.first:
+            worlds.append((world_of(*five), other))
+    return worlds
+
+
+class OtherReckoning:
+    """A world reckoned without the program: Python's own sets, and all tables made ahead."""
+
+    def __init__(self, five):
+        boxes, deeds, looks, begin, goal = five
+        self.every = list(itertools.product(*[range(size) for name, size in boxes]))
+        self.first = [at for at in self.every if reckoned(begin, boxes, at)]
+        self.goal = {at for at in self.every if reckoned(goal, boxes, at)}
+        self.price = {thing[0]: thing[1] for thing in deeds + looks}
+        self.need = {deed[0]: {at for at in self.every if reckoned(deed[2], boxes, at)} for deed in deeds}
+        self.comes = {deed[0]: {at: [self.changed(boxes, way, at) for way in deed[3]] for at in self.every}
+                      for deed in deeds}
+        self.shows = {look[0]: {at: reckoned(look[2], boxes, at) for at in self.every} for look in looks}
+
+    @staticmethod
+    def changed(boxes, way, at):
+        new = {name: reckoned(expression, boxes, at) for name, expression in way}
+        return tuple(new.get(name, value) % size for (name, size), value in zip(boxes, at))
+
+    # Knowledge, here a frozenset.
+
+    def behind(self, known, name):
+        return frozenset(new for at in known for new in self.comes[name][at])
+
+    def parts(self, known, name):
+        shown = {self.shows[name][at] for at in known}
+        return {worth: frozenset(at for at in known if self.shows[name][at] == worth) for worth in shown}
+
+    def steps(self, known):
+        """(price, the knowledges that may come) of each deed that may be done and each look that parts something."""
+        told = [(self.price[name], [self.behind(known, name)]) for name in self.need if known <= self.need[name]]
+        told += [(self.price[name], list(self.parts(known, name).values())) for name in self.shows]
+        return [step for step in told if step[1] != [known]]
+
+    def all_knowledges(self, first):
+        found = {}
+        new = [frozenset(first)]
+        while new:
+            known = new.pop()
+            if known not in found:
+                found[known] = True
+                if not known <= self.goal:
+                    new += [one for _, coming in self.steps(known) for one in coming]
+        return list(found)
+
+    def worst_values(self, first):
+        """Values by rounds: the worst price of the best plan of at most so many steps, until no more steps help."""
+        values = {known: 0 if known <= self.goal else math.inf for known in self.all_knowledges(first)}
+        steps = {known: self.steps(known) for known, value in values.items() if value}
+        while True:
+            new = dict(values)
+            for known, there in steps.items():
+                costs = [price + max(values[one] for one in coming) for price, coming in there]
+                new[known] = min(costs, default=math.inf)
+            if new == values:
+                return values
+            values = new
+
+    # Pairs of a plan.
+
+    def pairs_behind(self, plan, pair):
+        """What comes of a pair, or None of a fault."""
+        node, at = plan[pair[0]], pair[1]
+        if node[0] == "end":
+            return [] if at in self.goal else None
+        if node[0] == "do":
+            return [(node[2], new) for new in self.comes[node[1]][at]] if at in self.need[node[1]] else None
+        followers = [follower for worth, follower in node[2] if worth == self.shows[node[1]][at]]
+        return [(follower, at) for follower in followers] or None
+
+    def all_pairs(self, plan):
+        """A dict of all pairs that come, each with what comes of it."""
+        found = {}
+        new = [(0, at) for at in self.first]
+        while new:
+            pair = new.pop()
+            if pair not in found:
+                found[pair] = self.pairs_behind(plan, pair)
+                new += found[pair] or []
+        return found
+
+    def sure_sums(self, plan, costs):
+        """For each pair that comes, from which all rows end at the goal, the greatest sum of costs; reckoned by rounds."""
+        pairs = self.all_pairs(plan)
+        sums = {}
+        grown = True
+        while grown:
+            new = {pair: costs(plan[pair[0]]) + max([sums[one] for one in coming], default=0)
+                   for pair, coming in pairs.items()
+                   if pair not in sums and coming is not None and all(one in sums for one in coming)}
+            sums.update(new)
+            grown = bool(new)
+        return pairs, sums
+
+    def cost_of_node(self, node):
+        return 0 if node[0] == "end" else self.price[node[1]]
+
+
+def chance_plan(chance, other, size, onward):
+    """A chance plan for a world; where it goes onward alone it cannot go round."""
+    nodes = []
+    for place in range(size - 1):
+        def follower():
+            return chance.randrange(place + 1 if onward else 0, size)
+        kinds = ["do"] * bool(other.need) * 2 + ["look"] * bool(other.shows) + ["end"] * (chance.random() < 0.1)
+        kind = chance.choice(kinds or ["end"])
+        if kind == "do":
+            nodes.append(("do", chance.choice(list(other.need)), follower()))
+        elif kind == "look":
+            name = chance.choice(list(other.shows))
+            worths = [worth for worth in sorted(set(other.shows[name].values())) if chance.random() < 0.95]
+            nodes.append(("look", name, tuple((worth, follower()) for worth in worths)))
+        else:
+            nodes.append(("end",))
+    return nodes + [("end",)]
