@@ -80,10 +80,10 @@ def steps_of_all(chart, first):
 
 
 def best_steps(chart, steps):
-    """A dict of the knowledges from which some plan surely works: the worst value and the step to begin with of each.
+    """A dict of the knowledges from which some plan surely works: the least value and the step to begin with of each.
 
-    The step is None at the goal. Knowledges are settled by rising value: so the last one settled of those that come
-    of a step is the worst of them.
+    The step is None at the goal. The value of a step is its price and what its chart makes of the values behind it
+    together, which is no less than any of them: so knowledges can be settled by rising value.
     """
     sources = sources_of_all(steps)
     unsettled = {}
@@ -98,7 +98,8 @@ def best_steps(chart, steps):
                 key = (source, step[0])
                 unsettled[key] = unsettled.get(key, len(step[2])) - 1
                 if unsettled[key] == 0:
-                    put_in(waiting, (least[0] + step[1], source, step))
+                    together = chart.together([best[behind][0] for worth, behind in step[2]])
+                    put_in(waiting, (step[1] + together, source, step))
     return best
 
 
@@ -132,7 +133,7 @@ def plan_by(chart, best, first):
     plan = []
     while len(plan) < len(found):
         known = found[len(plan)]
-        if chart.is_goal(known):
+        if known is None:
             plan.append(("end",))
         else:
             step = best[known][1]
@@ -146,8 +147,8 @@ def plan_by(chart, best, first):
 
 
 def shared_end(chart, known):
-    """The knowledge whose node serves for some knowledge: all that is at the goal may end at one node."""
-    return chart.goal if chart.is_goal(known) else known
+    """The knowledge whose node serves for some knowledge: None for all that is at the goal, which ends at one node."""
+    return None if chart.is_goal(known) else known
 
 
 def node_of(name, forks):

@@ -39,6 +39,11 @@ def right_table(world, plan, table):
 
 def worst_price(world, plan):
     """The greatest sum of prices of any run of a plan that surely works."""
+    return max(sure_prices(world, plan))
+
+
+def sure_prices(world, plan):
+    """The greatest sum of prices of any run from each standing of the first knowledge, in their order."""
     first = first_pairs(world)
     walk = Walk(Course(world, plan), first)
     if walk.fault is not None:
@@ -46,7 +51,7 @@ def worst_price(world, plan):
     sums = greatest_sums(walk.coming, [price_at(world, node) for node in plan])
     if len(sums) < len(walk.coming):
         raise NotSure("the plan may go on for ever")
-    return max([sums[pair] for pair in first])
+    return [sums[pair] for pair in first]
 
 
 def first_pairs(world):

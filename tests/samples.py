@@ -7,6 +7,7 @@ import random
 from forkplan.worlds import world_of
 
 YES = ("yes",)
+END = ("end",)
 
 
 def chance_expression(chance, names, depth):
@@ -78,6 +79,50 @@ def both(*conditions):
     return whole
 
 
+def lists_in(thing):
+    """All lists in a thing, itself among them."""
+    found = [thing] if isinstance(thing, list) else []
+    if isinstance(thing, (list, tuple)):
+        for one in thing:
+            found += lists_in(one)
+    return found
+
+
+def lock(see_price=1, force_price=9):
+    """A door b (1 is open) that is turned left where a is 0 and right where it is 1; else left breaks it (b is 2)."""
+    deeds = [
+        ("left", 2, same("b", 0), [[("b", ("plus", box("a"), number(1)))]]),
+        ("right", 3, both(same("b", 0), same("a", 1)), [[("b", number(1))]]),
+        ("force", force_price, YES, [[("b", number(1))]]),
+    ]
+    return world_of([("a", 2), ("b", 3)], deeds, [("see", see_price, box("a"))], same("b", 0), same("b", 1))
+
+
+def maze(goal=None):
+    """As lock, but a can be flipped and not be seen: so one may try only once, and nothing surely works."""
+    deeds = [("try", 1, same("b", 0), [[("b", ("plus", box("a"), number(1)))]]),
+             ("flip", 1, YES, [[("a", ("less", number(1), box("a")))]])]
+    return world_of([("a", 2), ("b", 3)], deeds, [("dull", 1, number(7)), ("door", 1, box("b"))], same("b", 0),
+                    same("b", 1) if goal is None else goal)
+
+
+def spans(more):
+    """Each of a, b and c is known up to a span in 0 to 3, of which ten come, and d is 0 or 1: 2000 knowledges.
+
+    Where more is asked for, one deed more leads to one knowledge more, of which nothing new comes.
+    """
+    deeds = []
+    for name in "abc":
+        up = [(name, ("plus", box(name), number(1)))]
+        deeds += [("up" + name, 1, under(name, 3), [up]), ("may" + name, 1, under(name, 3), [[], up])]
+    deeds.append(("set", 1, same("d", 0), [[("d", number(1))]]))
+    last = both(*[same(name, 3) for name in "abc"])
+    if more:
+        deeds.append(("leap", 1, both(last, same("d", 1)), [[("a", number(0))], []]))
+    first = both(*[same(name, 0) for name in "abcd"])
+    return world_of([("a", 4), ("b", 4), ("c", 4), ("d", 2)], deeds, [], first, both(last, same("d", 0)))
+
+
 def chance_small_world(chance):
     """The five of a world small enough that all its knowledges can be gone through plainly."""
     sizes = chance.choice([(2,), (3,), (4,), (2, 2), (2, 3), (3, 2), (3, 3), (2, 2, 2)])
@@ -110,12 +155,14 @@ def chance_riddle(chance):
     return boxes, deeds, looks, chance.choice([YES, same("b", 0), same("b", 0)]), same("b", 1)
 
 
-def chance_worlds(seed, many):
-    """So many chance worlds of both kinds, each with what another reckoning tells of it."""
+def chance_worlds(seed, many, plain=False):
+    """So many chance worlds of both kinds, each with what another reckoning tells of it; plain: of one way a deed."""
     chance = random.Random(seed)
     worlds = []
     while len(worlds) < many:
         five = chance.choice([chance_small_world, chance_riddle])(chance)
+        if plain:
+            five = (five[0], [deed[:3] + (deed[3][:1],) for deed in five[1]], *five[2:])
         other = OtherReckoning(five)
         if other.first:
             worlds.append((world_of(*five), other))
@@ -237,3 +284,13 @@ def chance_plan(chance, other, size, onward):
         else:
             nodes.append(("end",))
     return nodes + [("end",)]
+
+
+def all_nodes(other, size):
+    """All nodes that a plan of that size may have."""
+    nodes = [END] + [("do", name, to) for name in other.need for to in range(size)]
+    for name in other.shows:
+        worths = sorted(set(other.shows[name].values()))
+        for ends in itertools.product([None] + list(range(size)), repeat=len(worths)):
+            nodes.append(("look", name, tuple((worth, to) for worth, to in zip(worths, ends) if to is not None)))
+    return nodes

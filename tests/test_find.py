@@ -12,50 +12,15 @@ from forkplan.judge import judged, right_table, worst_price
 from forkplan.known import first_known
 from forkplan.plans import plan_of, run
 from forkplan.worlds import standings, world_of
-from samples import YES, OtherReckoning, both, box, chance_worlds, number, same, under
+from samples import (END, YES, OtherReckoning, all_nodes, both, box, chance_worlds, lists_in, lock, maze, number, same,
+                     spans, under)
 
 A, B = box("a"), box("b")
-END = ("end",)
 MOST = 10 ** 30 - 1
-
-
-def lock(see_price=1, force_price=9):
-    """A door b (1 is open) that is turned left where a is 0 and right where it is 1; else left breaks it (b is 2)."""
-    deeds = [
-        ("left", 2, same("b", 0), [[("b", ("plus", A, number(1)))]]),
-        ("right", 3, both(same("b", 0), same("a", 1)), [[("b", number(1))]]),
-        ("force", force_price, YES, [[("b", number(1))]]),
-    ]
-    return world_of([("a", 2), ("b", 3)], deeds, [("see", see_price, A)], same("b", 0), same("b", 1))
 
 
 LOCK_NUMBERS = [([(0, 0)], 2), ([(0, 0), (1, 0)], 4), ([(0, 1)], 0), ([(0, 1), (1, 1)], 0), ([(0, 1), (1, 2)], 9),
                 ([(1, 0)], 3), ([(1, 1)], 0), ([(1, 2)], 9)]
-
-
-def maze(goal=None):
-    """As lock, but a can be flipped and not be seen: so one may try only once, and nothing surely works."""
-    deeds = [("try", 1, same("b", 0), [[("b", ("plus", A, number(1)))]]),
-             ("flip", 1, YES, [[("a", ("less", number(1), A))]])]
-    return world_of([("a", 2), ("b", 3)], deeds, [("dull", 1, number(7)), ("door", 1, B)], same("b", 0),
-                    same("b", 1) if goal is None else goal)
-
-
-def spans(more):
-    """Each of a, b and c is known up to a span in 0 to 3, of which ten come, and d is 0 or 1: 2000 knowledges.
-
-    Where more is asked for, one deed more leads to one knowledge more, of which nothing new comes.
-    """
-    deeds = []
-    for name in "abc":
-        up = [(name, ("plus", box(name), number(1)))]
-        deeds += [("up" + name, 1, under(name, 3), [up]), ("may" + name, 1, under(name, 3), [[], up])]
-    deeds.append(("set", 1, same("d", 0), [[("d", number(1))]]))
-    last = both(*[same(name, 3) for name in "abc"])
-    if more:
-        deeds.append(("leap", 1, both(last, same("d", 1)), [[("a", number(0))], []]))
-    first = both(*[same(name, 0) for name in "abcd"])
-    return world_of([("a", 4), ("b", 4), ("c", 4), ("d", 2)], deeds, [], first, both(last, same("d", 0)))
 
 
 class Checks(unittest.TestCase):
@@ -469,17 +434,10 @@ class Families(unittest.TestCase):
 class Owned(unittest.TestCase):
     WORLDS = (lock, maze, lambda: maze(("not", YES)), lambda: world_of([("a", 2)], [], [], YES, YES))
 
-    def lists_in(self, thing):
-        found = [thing] if isinstance(thing, list) else []
-        if isinstance(thing, (list, tuple)):
-            for one in thing:
-                found += self.lists_in(one)
-        return found
-
     def test_all_lists_are_new_and_none_is_told_twice(self):
         for made in self.WORLDS:
             world = made()
-            lists = self.lists_in(found_plan(world)) + self.lists_in(found_plan(world)) + self.lists_in(world)
+            lists = lists_in(found_plan(world)) + lists_in(found_plan(world)) + lists_in(world)
             self.assertEqual(len({id(one) for one in lists}), len(lists))
 
     def test_what_was_told_may_be_changed_behind(self):
@@ -487,7 +445,7 @@ class Owned(unittest.TestCase):
             world = made()
             told = found_plan(world)
             before = copy.deepcopy(told)
-            for one in self.lists_in(told):
+            for one in lists_in(told):
                 one.append("x")
             self.assertEqual(found_plan(world), before)
             self.assertEqual(world, made())
@@ -505,28 +463,19 @@ class Owned(unittest.TestCase):
 class EveryPlan(unittest.TestCase):
     """Point 4: no small plan does better than what is told, and where a trap is told none surely works."""
 
-    def nodes(self, other, size):
-        """All nodes that a plan of that size may have."""
-        nodes = [END] + [("do", name, to) for name in other.need for to in range(size)]
-        for name in other.shows:
-            worths = sorted(set(other.shows[name].values()))
-            for ends in itertools.product([None] + list(range(size)), repeat=len(worths)):
-                nodes.append(("look", name, tuple((worth, to) for worth, to in zip(worths, ends) if to is not None)))
-        return nodes
-
     def sure_prices(self, other, plans):
         sums = [other.sure_sums(list(plan), other.cost_of_node) for plan in plans]
         return [max(sure[(0, at)] for at in other.first) for pairs, sure in sums if len(pairs) == len(sure)]
 
     def test_a_plan_with_a_look(self):
         other = OtherReckoning(lock())
-        plans = [plan + (END,) for plan in itertools.product(self.nodes(other, 4), repeat=3)]
+        plans = [plan + (END,) for plan in itertools.product(all_nodes(other, 4), repeat=3)]
         self.assertEqual(min(self.sure_prices(other, plans)), found_plan(lock())[2])
 
     def test_small_worlds(self):
         kinds = {"plan": 0, "trap": 0, "met": 0}
         for world, other in chance_worlds(4, 400):
-            nodes = self.nodes(other, 3)
+            nodes = all_nodes(other, 3)
             told = found_plan(world)
             if len(nodes) > 13 or not other.need or set(other.first) <= other.goal:
                 continue
