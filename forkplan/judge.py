@@ -8,13 +8,13 @@ from forkplan.worlds import is_whole, standings
 
 def judged(world, plan):
     """What is told of a plan, whose first is "sure", "fails" or "endless"."""
-    walk = Walk(Course(world, plan), first_pairs(world))
+    walk = walk_of(world, plan)
     if walk.fault is not None:
-        return ("fails",) + walk.run_to(walk.fault)
+        return ("fails",) + run_in(plan, walk.row_to(walk.fault))
     ranks = greatest_sums(walk.coming, [0 if node[0] == "end" else 1 for node in plan])
     if len(ranks) < len(walk.coming):
         ring = ring_beside(walk.coming, ranks)
-        return ("endless",) + walk.run_to(ring[0][0]) + (walk.choices_in(ring),)
+        return ("endless",) + run_in(plan, walk.row_to(ring[0][0])) + (choices_in(plan, ring),)
     return ("sure", sorted([pair + (rank,) for pair, rank in ranks.items()]))
 
 
@@ -44,14 +44,13 @@ def worst_price(world, plan):
 
 def sure_prices(world, plan):
     """The greatest sum of prices of any run from each standing of the first knowledge, in their order."""
-    first = first_pairs(world)
-    walk = Walk(Course(world, plan), first)
+    walk = walk_of(world, plan)
     if walk.fault is not None:
         raise NotSure("the plan does not surely work")
     sums = greatest_sums(walk.coming, [price_at(world, node) for node in plan])
     if len(sums) < len(walk.coming):
         raise NotSure("the plan may go on for ever")
-    return [sums[pair] for pair in first]
+    return [sums[pair] for pair in first_pairs(world)]
 
 
 def first_pairs(world):
@@ -74,48 +73,63 @@ def pairs_behind(course, pair):
     return [(forks[worth], standing)] if worth in forks else None
 
 
-class Walk:
-    """All pairs that come of a plan, or, where one is a fault, those that were found up to it.
+def walk_of(world, plan):
+    """The walk through all pairs of a plan, up to the first fault."""
+    course = Course(world, plan)
+    return Walk(first_pairs(world), lambda pair: pairs_behind(course, pair))
 
-    coming holds the pairs that come of each one, way by way; ahead the pair and the way by which each was found first.
+
+class Walk:
+    """All places that come of the first ones, or, where one is a fault, those that were found up to it.
+
+    What comes of a place, way by way, is told by a function, which tells None of a fault. Places that come in fewer
+    steps are found first. coming holds what comes of each place; ahead the place and the way by which each was found.
     """
 
-    def __init__(self, course, first):
-        self.course = course
+    def __init__(self, first, places_behind):
         self.coming = {}
-        self.ahead = dict([(pair, None) for pair in first])
+        self.ahead = dict([(place, None) for place in first])
         self.fault = None
         found = list(first)
         while len(self.coming) < len(found) and self.fault is None:
-            pair = found[len(self.coming)]
-            found.extend(self.new_behind(pair))
+            place = found[len(self.coming)]
+            followers = places_behind(place)
+            if followers is None:
+                self.fault = place
+            else:
+                self.coming[place] = followers
+                found.extend(self.new_ones(place, followers))
 
-    def new_behind(self, pair):
-        """Those pairs behind a pair that were not found so far."""
-        followers = pairs_behind(self.course, pair)
-        if followers is None:
-            self.fault = pair
-            return []
-        self.coming[pair] = followers
+    def new_ones(self, place, followers):
+        """Those that come of a place and were not found so far."""
         found = []
         for way, follower in enumerate(followers):
             if follower not in self.ahead:
-                self.ahead[follower] = (pair, way)
+                self.ahead[follower] = (place, way)
                 found.append(follower)
         return found
 
-    def run_to(self, pair):
-        """The standing and the choices of a run that comes to a pair."""
-        row = []
-        while self.ahead[pair] is not None:
-            row.append(self.ahead[pair])
-            pair = self.ahead[pair][0]
-        row.reverse()
-        return (pair[1], self.choices_in(row))
+    def row_to(self, place):
+        """The row of places, from a first one on, by which a place was found, each with the way taken there.
 
-    def choices_in(self, row):
-        """The choices of a row of pairs with the ways taken there: those of its deeds."""
-        return [way for pair, way in row if self.course.nodes[pair[0]][0] == "do"]
+        The place itself stands at the end, with None in the place of a way.
+        """
+        row = [(place, None)]
+        while self.ahead[place] is not None:
+            row.append(self.ahead[place])
+            place = self.ahead[place][0]
+        row.reverse()
+        return row
+
+
+def run_in(plan, row):
+    """The standing and the choices of a run through a row of pairs; the last one's way is not taken."""
+    return (row[0][0][1], choices_in(plan, row[:-1]))
+
+
+def choices_in(plan, row):
+    """The choices of a row of pairs with the ways taken there: those of its deeds."""
+    return [way for pair, way in row if plan[pair[0]][0] == "do"]
 
 
 def greatest_sums(coming, costs):

@@ -4,6 +4,7 @@ import itertools
 import math
 import random
 
+from forkplan.find import found_plan
 from forkplan.worlds import world_of
 
 YES = ("yes",)
@@ -263,6 +264,18 @@ class OtherReckoning:
             grown = bool(new)
         return pairs, sums
 
+    def works(self, plan):
+        """Whether a plan surely works."""
+        pairs, sums = self.sure_sums(plan, lambda node: 1)
+        return len(pairs) == len(sums)
+
+    def known_at(self, plan):
+        """A dict of the nodes to which pairs come, each with the set of their standings."""
+        known = {}
+        for number, at in self.all_pairs(plan):
+            known.setdefault(number, set()).add(at)
+        return known
+
     def cost_of_node(self, node):
         return 0 if node[0] == "end" else self.price[node[1]]
 
@@ -294,3 +307,62 @@ def all_nodes(other, size):
         for ends in itertools.product([None] + list(range(size)), repeat=len(worths)):
             nodes.append(("look", name, tuple((worth, to) for worth, to in zip(worths, ends) if to is not None)))
     return nodes
+
+
+def led_elsewhere(node, numbers):
+    """A node whose next ones are given by a dict or list of numbers, or by a function of them."""
+    where = numbers if callable(numbers) else numbers.__getitem__
+    if node[0] == "do":
+        return node[:2] + (where(node[2]),)
+    if node[0] == "look":
+        return node[:2] + (tuple((worth, where(to)) for worth, to in node[2]),)
+    return node
+
+
+def longer_plan(chance, other, plan, times):
+    """A plan with so many nodes put in: looks and deeds ahead of others, copies, and nodes to which nothing leads.
+
+    Where a deed is put in that does not fit, it surely works no more.
+    """
+    nodes = list(plan)
+    for _ in range(times):
+        place = chance.randrange(len(nodes))
+        new = chance.choice([nodes[place], nodes[place], END])
+        if other.shows and chance.random() < 0.5:
+            name = chance.choice(list(other.shows))
+            worths = chance.sample(sorted(set(other.shows[name].values())), len(set(other.shows[name].values())))
+            new = ("look", name, tuple((worth, place) for worth in worths))
+        elif other.need and chance.random() < 0.4:
+            new = ("do", chance.choice(list(other.need)), place)
+        share = chance.choice([0, 0.5, 0.5, 1])
+        nodes = [led_elsewhere(node, lambda to: len(nodes) if to == place and chance.random() < share else to)
+                 for node in nodes] + [new]
+        if place == 0 and share:
+            nodes = moved_nodes(nodes, [len(nodes) - 1] + list(range(len(nodes) - 1)))
+    order = list(range(1, len(nodes)))
+    return moved_nodes(nodes, [0] + chance.sample(order, len(order)))
+
+
+def moved_nodes(nodes, order):
+    """The same plan with its nodes in another order."""
+    places = {number: place for place, number in enumerate(order)}
+    return [led_elsewhere(nodes[number], places) for number in order]
+
+
+def sure_plans(seed, many, times=6):
+    """So many (world, other reckoning, plan that surely works), of all kinds, most with more nodes than they need."""
+    chance = random.Random(seed)
+    worlds = chance_worlds(seed, many)
+    told = []
+    while len(told) < many:
+        world, other = chance.choice(worlds)
+        plan = chance_plan(chance, other, chance.randrange(1, 8), chance.random() < 0.7)
+        if not other.works(plan):
+            found = found_plan(world)
+            plan = found[1] if found[0] == "plan" else None
+        if plan is not None:
+            for _ in range(chance.randrange(times + 1)):
+                longer = longer_plan(chance, other, plan, chance.randrange(1, 4))
+                plan = longer if other.works(longer) else plan
+            told.append((world, other, plan))
+    return told
